@@ -1,0 +1,1 @@
+"""Homefrees: a memory allocator on several sockets, step by step."""
