@@ -1,7 +1,8 @@
 """Operations, programs, and their texts."""
 
-from homefrees.errors import InvalidProgram, ParseError
-from homefrees.integers import is_between, read_int
+from homefrees.errors import InvalidProgram
+from homefrees.integers import is_between
+from homefrees.lines import parse_rows, text_of
 
 # For each word the least and the greatest value of each integer behind it.
 LIMITS = {
@@ -25,19 +26,6 @@ def is_operation(value):
     return all([is_between(number, low, high) for number, (low, high) in zip(value[1:], limits)])
 
 
-def operation_text(operation):
-    """Return the line of an operation."""
-    return " ".join([str(part) for part in operation])
-
-
-def read_operation(line):
-    """Return the operation that is written in the line, or None if it is none."""
-    words = line.split(" ")
-    numbers = [read_int(word) for word in words[1:]]
-    operation = (words[0], *numbers)
-    return operation if is_operation(operation) else None
-
-
 def program_text(program):
     """Return the text of a list or tuple of operations."""
     if not isinstance(program, (list, tuple)):
@@ -45,19 +33,9 @@ def program_text(program):
     for index, operation in enumerate(program):
         if not is_operation(operation):
             raise InvalidProgram(index)
-    return "\n".join([operation_text(operation) for operation in program])
+    return text_of(program)
 
 
 def parse_program(text):
     """Return the list of the operations of a text."""
-    if not isinstance(text, str):
-        raise ParseError(None)
-    program = []
-    # The empty text has no line here, though split would give it an empty one.
-    lines = text.split("\n") if text else []
-    for number, line in enumerate(lines, start=1):
-        operation = read_operation(line)
-        if operation is None:
-            raise ParseError(number)
-        program.append(operation)
-    return program
+    return parse_rows(text, is_operation)
