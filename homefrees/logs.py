@@ -119,31 +119,44 @@ def fitting(machine, state, versions, index, value):
     return (follower, entry) if are_same(value, entry) else None
 
 
-def first_fitting(machine, state, versions, logs, positions):
-    """Return (index, state, entry) for the first log whose next entry fits, or None."""
-    for index, log in enumerate(logs):
-        if positions[index] == len(log):
-            continue
-        found = fitting(machine, state, versions, index, log[positions[index]])
+def unfinished(logs, positions):
+    """Return the list of the indexes of the logs that have entries left."""
+    return [index for index, log in enumerate(logs) if positions[index] < len(log)]
+
+
+def first_fitting(machine, state, versions, logs, positions, order):
+    """Return (index, state, entry) for the first log, in the order of these indexes, whose next entry fits, or None."""
+    for index in order:
+        found = fitting(machine, state, versions, index, logs[index][positions[index]])
         if found is not None:
             return (index, *found)
     return None
 
 
-def merged(machine, logs):
-    """Return ("run", moves) with a run that has these logs, or ("stuck", positions); accepts any value."""
-    check_logs(machine, logs)
+def put_together(machine, logs, ordered):
+    """Return (moves, positions): a run that the logs tell, as far as they fit, and the indexes of their next entries.
+
+    Given the logs and the positions, ordered returns the indexes of those with entries left, in the
+    order in which they are tried.
+    """
     state = machine.start
     versions = {}
     moves = []
     positions = [0] * len(logs)
-    found = first_fitting(machine, state, versions, logs, positions)
+    found = first_fitting(machine, state, versions, logs, positions, ordered(logs, positions))
     while found is not None:
         index, state, entry = found
         count_touches(versions, entry)
         moves.append(entry[0])
         positions[index] += 1
-        found = first_fitting(machine, state, versions, logs, positions)
-    if positions != [len(log) for log in logs]:
+        found = first_fitting(machine, state, versions, logs, positions, ordered(logs, positions))
+    return (moves, positions)
+
+
+def merged(machine, logs):
+    """Return ("run", moves) with a run that has these logs, or ("stuck", positions); accepts any value."""
+    check_logs(machine, logs)
+    moves, positions = put_together(machine, logs, unfinished)
+    if unfinished(logs, positions):
         return ("stuck", positions)
     return ("run", moves)

@@ -51,13 +51,17 @@ def may_step(machine, state, number):
     return not waits(machine, state, number)
 
 
+def stops_so_far(state):
+    """Return how many threads were stopped."""
+    # A thread that was recovered was stopped before.
+    return len([row for row in state.threads if row[0] in ("stopped", "recovered")])
+
+
 def may_stop(machine, state, number):
     """Return whether there is this thread, and it may be stopped."""
     if number >= len(state.threads) or state.threads[number][0] != "running":
         return False
-    # A thread that was recovered was stopped before.
-    stopped = [row for row in state.threads if row[0] in ("stopped", "recovered")]
-    return len(stopped) < machine.stops
+    return stops_so_far(state) < machine.stops
 
 
 def may_sweep(machine, state, socket):

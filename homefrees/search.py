@@ -39,21 +39,29 @@ def rank_before(ranks_behind):
     return (1 + min([least for least, _ in ranks_behind]), 1 + max([most for _, most in ranks_behind]))
 
 
-def all_ranks(search):
-    """Return the list of the ranks of the states of a search."""
-    followers = search.followers()
+def ends_first(followers):
+    """Return the numbers of the states, each one behind those of the states to which its moves lead."""
     origins = origins_of(followers)
-    found = [None] * len(followers)
-    # Every run ends, so that each state comes at last behind all those to which its moves lead.
+    # Every run ends, so that each state is ready at last.
     open_moves = [len(row) for row in followers]
     ready = [number for number, many in enumerate(open_moves) if many == 0]
+    found = []
     while ready:
         number = ready.pop()
-        found[number] = rank_before([found[follower] for follower in followers[number]])
+        found.append(number)
         for origin in origins[number]:
             open_moves[origin] -= 1
             if open_moves[origin] == 0:
                 ready.append(origin)
+    return found
+
+
+def all_ranks(search):
+    """Return the list of the ranks of the states of a search."""
+    followers = search.followers()
+    found = [None] * len(followers)
+    for number in ends_first(followers):
+        found[number] = rank_before([found[follower] for follower in followers[number]])
     return found
 
 

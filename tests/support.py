@@ -116,3 +116,181 @@ def random_runs(seed, amount, fault=None):
     chooser = random.Random(seed)
     machines = [random_machine(chooser, fault) for _ in range(amount)]
     return [(machine, random_run(chooser, machine)) for machine in machines]
+
+
+def replaced_at(value, path, part):
+    """Return the value, tuples and lists in each other, with another part at the place of these indexes."""
+    if not path:
+        return part
+    items = list(value)
+    items[path[0]] = replaced_at(items[path[0]], path[1:], part)
+    return tuple(items) if isinstance(value, tuple) else items
+
+
+def part_at(value, path):
+    for index in path:
+        value = value[index]
+    return value
+
+
+def paths_of(value, path=()):
+    """Return the paths of all parts of the value, itself included, at any depth."""
+    paths = [path]
+    if isinstance(value, (list, tuple)):
+        for index, item in enumerate(value):
+            paths.extend(paths_of(item, (*path, index)))
+    return paths
+
+
+def values_of_other_kinds(part):
+    """Return values that can never stand in the place of this part, which is a list, tuple, integer, string or None."""
+    values = [b"word", {}, {0: 0}, object(), 10 ** 40, -1, len, [None], (None, None, None, None, None, None, None)]
+    if part is not None:
+        values.append(None)
+    if isinstance(part, int):
+        values.extend(["0", str(part), [part], (part,)])
+        values.extend([True] if part == 1 else [False] if part == 0 else [])
+    if isinstance(part, str):
+        values.extend([part.encode(), part.upper(), part + " ", "", [part], (part,), list(part)])
+    if isinstance(part, tuple):
+        values.extend([list(part), (part,), [part], {item: True for item in range(len(part))}])
+    if isinstance(part, list):
+        values.extend([tuple(part), [part], (part,)])
+    return values
+
+
+class KeyMaker:
+    """Makes a valid key of a machine without a fault that no run needs to reach."""
+
+    def __init__(self, chooser, machine):
+        self.chooser = chooser
+        self.machine = machine
+        kinds, sockets = len(machine.classes), machine.sockets
+        self.uses = [("store",)] * machine.pages
+        self.cells = [chooser.choice([None, ("failure",)]) for _ in range(machine.slots)]
+        self.inboxes = [[] for _ in range(sockets)]
+        self.post = []
+        self.hands = [[] for _ in machine.threads]
+        self.caches = [[[] for _ in range(kinds)] for _ in machine.threads]
+        self.batches = [[[[] for _ in range(kinds)] for _ in range(sockets)] for _ in machine.threads]
+        self.rows = self.chosen_rows()
+
+    def chosen_rows(self):
+        """Return [status, at, phase] for each thread."""
+        rows = []
+        stops = 0
+        for _, program in self.machine.threads:
+            status = self.chooser.choice(["running", "running", "running", "stopped", "recovered", "ended"])
+            if status in ("stopped", "recovered"):
+                status = status if stops < self.machine.stops else "running"
+                stops += status != "running"
+            at = len(program) if status == "ended" else self.chooser.randint(0, len(program))
+            rows.append([status, at, self.chosen_phase(status, program[at:at + 1])])
+        return rows
+
+    def chosen_phase(self, status, rest):
+        if status != "running":
+            return "over"
+        if not rest:
+            return "flush"
+        others = {"alloc": ["hand"], "drain": ["hand"], "free": ["send"]}
+        return self.chooser.choice(["begin", *others.get(rest[0][0], [])])
+
+    def put_large(self):
+        """Put large blocks into some slots."""
+        for slot in range(self.machine.slots):
+            first = self.chooser.randrange(self.machine.pages)
+            many = self.chooser.randint(1, min(3, self.machine.pages - first))
+            if self.chooser.random() < 0.2 and self.uses[first:first + many] == [("store",)] * many:
+                self.uses[first:first + many] = [("large", first)] * many
+                self.cells[slot] = ("large", first, many)
+
+    def rooms(self, kind):
+        """Return the lists to which one more block of the class can be appended."""
+        rooms = [*self.inboxes, *[blocks for _, blocks in self.post]]
+        for number, (status, at, phase) in enumerate(self.rows):
+            program = self.machine.threads[number][1]
+            if status in ("recovered", "ended"):
+                continue
+            if status == "stopped" or phase == "hand":
+                rooms.append(self.hands[number])
+            is_cache_empty = phase == "hand" and program[at][0] == "alloc" and program[at][1] == kind
+            if len(self.caches[number][kind]) < self.machine.batch and not is_cache_empty:
+                rooms.append(self.caches[number][kind])
+            most = self.machine.batch if status == "stopped" else self.machine.batch - 1
+            rooms.extend([row[kind] for row in self.batches[number] if len(row[kind]) < most])
+        return rooms
+
+    def put_block(self, kind, block):
+        """Put the block anywhere but into the list of its page."""
+        free = [slot for slot, held in enumerate(self.cells) if held is None]
+        choice = self.chooser.random()
+        if choice < 0.3 and free:
+            self.cells[self.chooser.choice(free)] = ("block", *block)
+        elif choice < 0.4:
+            self.post.append((self.chooser.randrange(self.machine.sockets), [block]))
+        else:
+            self.chooser.choice(self.rooms(kind)).append(block)
+
+    def put_small(self):
+        """Make some pages small or spare, and put their blocks somewhere."""
+        for page in range(self.machine.pages):
+            home = self.chooser.randrange(self.machine.sockets)
+            if self.uses[page] != ("store",) or self.chooser.random() < 0.3:
+                continue
+            if self.chooser.random() < 0.2:
+                if self.uses.count(("spare", home)) < self.machine.spare:
+                    self.uses[page] = ("spare", home)
+                continue
+            kind = self.chooser.randrange(len(self.machine.classes))
+            numbers = list(range(self.machine.classes[kind]))
+            self.chooser.shuffle(numbers)
+            away = self.chooser.randint(1, len(numbers))
+            self.uses[page] = ("small", home, kind, tuple(numbers[away:]))
+            for number in numbers[:away]:
+                self.put_block(kind, (page, number))
+
+    def fill_batch(self, number):
+        """Make one batch of the thread as full as a batch can be, with blocks of arrivals, or return whether not."""
+        kind = self.chooser.randrange(len(self.machine.classes))
+        row = self.chooser.choice(self.batches[number])
+        for blocks in self.inboxes:
+            for block in list(blocks):
+                if self.uses[block[0]][2] == kind and len(row[kind]) < self.machine.batch:
+                    blocks.remove(block)
+                    row[kind].append(block)
+        if len(row[kind]) == self.machine.batch:
+            return True
+        self.inboxes[0].extend(row[kind])
+        row[kind].clear()
+        return False
+
+    def settle(self):
+        """Give those threads another phase that lack the blocks for theirs."""
+        for number, row in enumerate(self.rows):
+            _, at, phase = row
+            has_none = not any(self.caches[number]) and not any(map(any, self.batches[number]))
+            if phase == "flush" and has_none:
+                row[:] = ["ended", at, "over"]
+            if phase == "hand" and self.machine.threads[number][1][at] == ("drain",) and not self.hands[number]:
+                row[2] = "begin"
+            if phase == "send" and not self.fill_batch(number):
+                row[2] = "begin"
+
+    def key(self):
+        self.put_large()
+        self.put_small()
+        self.settle()
+        threads = [
+            (*row, tuple(hand), tuple(map(tuple, caches)), tuple([tuple(map(tuple, part)) for part in batches]))
+            for row, hand, caches, batches in zip(self.rows, self.hands, self.caches, self.batches)
+        ]
+        post = [(socket, tuple(blocks)) for socket, blocks in self.post]
+        return (tuple(self.uses), tuple(self.cells), tuple(threads), tuple(map(tuple, self.inboxes)), tuple(post))
+
+
+def random_keys(seed, amount):
+    """Return a list of tuples of a random machine and a valid key of it."""
+    chooser = random.Random(seed)
+    machines = [random_machine(chooser) for _ in range(amount)]
+    return [(machine, KeyMaker(chooser, machine).key()) for machine in machines]
