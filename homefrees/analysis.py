@@ -14,7 +14,8 @@ def same_runs(machine, first, second):
 
 def by_next_moves(logs, positions):
     """Return the indexes of the logs with entries left, in the order of their next moves."""
-    return sorted(unfinished(logs, positions), key=lambda index: logs[index][positions[index]][0])
+    rows = [(logs[index][positions[index]][0], index) for index in unfinished(logs, positions)]
+    return [index for _, index in sorted(rows)]
 
 
 def normal_run(machine, moves):
