@@ -5,6 +5,7 @@ import random
 from homefrees.errors import LimitExceeded
 from homefrees.machine import Machine
 from homefrees.search import Search
+from homefrees.workbench import Workbench
 
 # None of them is a list, a tuple, an integer or a string.
 OTHERS = [None, True, False, b"", b"data", {}, {0: 0}, {"step": 0}, object(), int, len]
@@ -294,3 +295,40 @@ def random_keys(seed, amount):
     chooser = random.Random(seed)
     machines = [random_machine(chooser) for _ in range(amount)]
     return [(machine, KeyMaker(chooser, machine).key()) for machine in machines]
+
+
+def long_bench():
+    """Return a workbench whose first possible moves are 1138 to the end.
+
+    Because of the fault, all threads of a socket take the same arrivals: from each socket to the
+    other one and back, there are three times as many blocks.
+    """
+    rounds = [("drain",), ("adopt", 7), ("drain",), ("adopt", 7)]
+    threads = [
+        (0, [("alloc", 0, slot) for slot in range(8)] + rounds), (0, rounds[::2]), (0, rounds[::2]),
+        (1, [("free", slot) for slot in range(7)] + [("adopt", 7)] + rounds[:3]), (1, rounds[::2]), (1, rounds[::2]),
+    ]
+    bench = Workbench(Machine(2, [8], threads, slots=8, batch=7, fault="take"))
+    play_until(bench, 0, 8)
+    play_until(bench, 3, 8)
+    for group in [(0, 1, 2), (3, 4, 5), (0, 1, 2)]:
+        deliver_and_read(bench, group)
+        for thread in group:
+            play_until(bench, thread, bench.now.threads[thread][1] + 1)
+        play_until(bench, group[0], bench.now.threads[group[0]][1] + 1)
+    deliver_and_read(bench, (3, 4, 5))
+    return bench
+
+
+def play_until(bench, thread, at):
+    """Let the thread step until it is at the operation with this index."""
+    while bench.now.threads[thread][1] < at:
+        bench.play(("step", thread))
+
+
+def deliver_and_read(bench, group):
+    """Deliver all messages, and let each thread of the group make a step."""
+    while bench.now.flight:
+        bench.play(("carry", 0))
+    for thread in group:
+        bench.play(("step", thread))

@@ -1,4 +1,9 @@
-"""The guarantees of the document, over many runs of machines without a fault."""
+"""The guarantees of the document, over many runs of machines without a fault.
+
+Here are 1 to 5, 8, and parts of 10 and 12. The others stand beside what they are about: 6 in test_search,
+7 in test_keys, 9 in test_analysis, 10 in test_logs, 11 in test_ledgers and test_reports, and 12 in
+test_texts and test_workbench.
+"""
 
 import random
 import unittest

@@ -1,19 +1,11 @@
-"""The shape of the package: its files, and where its names are defined."""
+"""The shape of the package: its files."""
 
-import importlib
-import inspect
 import os
 import unittest
 
 import homefrees
 
 FOLDER = os.path.dirname(os.path.abspath(homefrees.__file__))
-
-FUNCTIONS = [
-    ("homefrees.programs", "is_operation", ["value"]),
-    ("homefrees.programs", "program_text", ["program"]),
-    ("homefrees.programs", "parse_program", ["text"]),
-]
 
 
 def names():
@@ -52,24 +44,6 @@ class FileTests(unittest.TestCase):
                 if line.startswith(("import ", "from ")):
                     with self.subTest(name, line=line):
                         self.assertTrue(line.startswith("from homefrees."))
-
-
-class InterfaceTests(unittest.TestCase):
-    def test_functions_are_defined_where_they_are_listed(self):
-        for module, name, parameters in FUNCTIONS:
-            with self.subTest(name):
-                function = getattr(importlib.import_module(module), name)
-                self.assertTrue(inspect.isfunction(function))
-                self.assertEqual(function.__module__, module)
-                self.assertEqual(list(inspect.signature(function).parameters), parameters)
-
-    def test_state_is_defined_where_it_is_listed(self):
-        state = importlib.import_module("homefrees.state").State
-        self.assertTrue(inspect.isclass(state))
-        self.assertEqual(state.__module__, "homefrees.state")
-        for name in ("pages", "slots", "threads", "arrivals", "flight", "key"):
-            self.assertIsInstance(vars(state)[name], property)
-        self.assertIn("__eq__", vars(state))
 
 
 if __name__ == "__main__":
