@@ -100,6 +100,22 @@ class FormTests(KeyTestCase):
                     continue
                 self.check(path, other, False)
 
+    def test_other_words(self):
+        # A page of the store, and an empty slot, have no block that would be lost.
+        self.check((PAGES, 6), ("store",), True)
+        for word in ("store", "spare", "large", "", "Small", "word"):
+            self.check((PAGES, 6), (word, 0, 0, ()), False)
+            self.check((PAGES, 6), (word, 0, 0), False)
+        for word in ("store", "small", "", "Spare", "word"):
+            self.check((PAGES, 6), (word, 0), False)
+        for word in ("", "Store", "small", "spare", "large", "free"):
+            self.check((PAGES, 6), (word,), False)
+        for word in ("failure", "", "Large", "Block", "word", "small"):
+            self.check((SLOTS, 1), (word, 0, 1), False)
+            self.check((SLOTS, 1), (word, 6, 1), False)
+        for word in ("", "Failure", "block", "large", "word"):
+            self.check((SLOTS, 1), (word,), False)
+
     def test_items_too_many_or_too_few(self):
         for path in paths_of(KEY):
             part = part_at(KEY, path)
@@ -400,6 +416,12 @@ class PhaseTests(KeyTestCase):
         for phase in ("begin", "hand", "send", "flush", "clear", "get", "", "OVER"):
             for number in (3, 4, 5):
                 self.check((THREADS, number, PHASE), phase, False)
+
+    def test_other_phases_of_running_threads(self):
+        # In an alloc, a free, a drain, a free, an adopt, and at the end of a program.
+        for number, at in ((0, 0), (0, 1), (1, 0), (1, 1), (5, 0), (1, 2)):
+            for phase in ("over", "clear", "get", "", "BEGIN", "flush" if (number, at) != (1, 2) else "begin"):
+                self.check_all(self.row(number, "running", at, phase), False, changed(FULL, stops=3))
 
     def test_ended(self):
         self.check_all(self.row(0, "ended", 2, "over"), True)
