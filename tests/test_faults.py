@@ -58,6 +58,20 @@ class TakeTests(FaultTest):
             ("carry", 0, 1), ("read", 1), ("clear", 1), ("home", (0, 0)), ("fill", 0), ("hit", (0, 0)),
         ])
 
+    def test_clearing_does_not_wait_though_there_is_no_page(self):
+        machine = Machine(2, [1], [
+            (0, [("alloc", 0, 0), ("alloc", 0, 1)]), (1, [("free", 0), ("large", 1, 1)]),
+        ], pages=1, fault="take")
+        text = "0 0 0 0 1 1 1 carry0 0 0 0 0"
+        state = self.assert_last(machine, text, [
+            ("fail",), ("carry", 0, 1), ("read", 1), ("clear", 1), ("home", (0, 0)), ("open", 0),
+        ])
+        self.assertEqual(machine.moves(state), [])
+        # Also if nothing was read.
+        machine = Machine(1, [1], [(0, [("alloc", 0, 0), ("alloc", 0, 0)])], pages=1, fault="take")
+        state = self.assert_last(machine, "0 0 0 0 0 0", [("hit", (0, 0)), ("read", 0), ("clear", 0)])
+        self.assertEqual(machine.moves(state), [])
+
     def test_block_that_arrives_between_the_two_steps_is_lost(self):
         text = self.BEGIN + "carry0 2 carry0 2"
         state = self.assert_last(self.MACHINE, text, [("carry", 0, 1), ("read", 1), ("carry", 0, 1), ("clear", 2)])
@@ -155,6 +169,15 @@ class FillTests(FaultTest):
     def test_looking_does_not_wait(self):
         machine = changed(self.MACHINE, threads=[(0, [("alloc", 0, 0), ("alloc", 0, 0)])], batch=1)
         state = self.assert_last(machine, "0 0 0 0 0 0", [("take", 0), ("look", 0), ("fill", 0)])
+        self.assertEqual(machine.moves(state), [])
+
+    def test_getting_does_not_wait_though_there_is_no_page(self):
+        machine = Machine(1, [2], [
+            (0, [("alloc", 0, 0), ("alloc", 0, 1)]), (0, [("alloc", 0, 2), ("large", 1, 1)]),
+        ], pages=1, slots=3, fault="fill")
+        text = "0 0 0 0 0 1 1 1 1 1 0"
+        state = self.assert_last(machine, text, [("fill", 0), ("hit", (0, 1)), ("fail",), ("fill", 0)])
+        self.assertEqual(state.threads[0], ("running", 1, "begin", (), (((0, 1),),), (((),),)))
         self.assertEqual(machine.moves(state), [])
 
     def test_stopped_between_the_two_steps(self):

@@ -191,6 +191,17 @@ class ShrunkTests(unittest.TestCase):
             run_without(machine, machine.after(moves[:6]), moves, 6), moves_of("0 0 0 3 3 3 1 1 1"),
         )
 
+    def test_moves_that_can_be_left_out_only_behind_others_before_them(self):
+        machine = Machine(2, [2, 3], [
+            (0, [("alloc", 0, 0), ("alloc", 0, 0), ("adopt", 0), ("alloc", 0, 0), ("adopt", 0), ("grow", 0)]),
+            (1, [("grow", 0), ("free", 0), ("free", 0), ("adopt", 0)]),
+        ], pages=1, slots=1, fault="take")
+        moves = moves_of("0 0 0 0 1 0 1 0 0 0 1 0 carry0 0 1 1 carry0 0")
+        once = moves_of("0 0 0 0 1 0 1 0 0 0 0 0 1 1 carry0 0")
+        twice = moves_of("0 0 0 0 1 0 1 0 0 0 0 0 1 carry0 0")
+        self.assertEqual(shrunk_by_the_words(machine, moves), twice)
+        self.assertEqual([shrunk(machine, moves), shrunk(machine, once)], [twice, twice])
+
     def test_words_of_the_document(self):
         shorter = 0
         for fault in ("take", "fill", "batches"):

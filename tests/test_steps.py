@@ -212,6 +212,11 @@ class AllocWaitingTests(StepTest):
         self.assert_waits(machine, steps(5))
         self.assertEqual(events_of(machine, steps(5))[3:], [("take", 0), ("fill", 0)])
 
+    def test_fill_does_not_wait_though_there_is_no_page_to_open(self):
+        machine = alone(("alloc", 0, 0), ("alloc", 0, 0), classes=[2], pages=1)
+        self.assertEqual(events_of(machine, steps(5))[3:], [("take", 0), ("fill", 0)])
+        self.assert_waits(machine, steps(5))
+
     def test_bringing_home_does_not_wait(self):
         machine = Machine(2, [2], [
             (0, [("alloc", 0, 0), ("alloc", 0, 1), ("alloc", 0, 1)]), (1, [("free", 0)]),
@@ -219,6 +224,15 @@ class AllocWaitingTests(StepTest):
         text = "0 0 0 0 0 0 1 1 carry0"
         self.assertEqual(events_of(machine, text + " 0 0 0")[9:], [("take", 1), ("home", (0, 0)), ("fill", 0)])
         self.assert_waits(machine, text + " 0 0 0")
+
+    def test_bringing_home_does_not_wait_though_there_is_no_page(self):
+        machine = Machine(2, [1], [
+            (0, [("alloc", 0, 0), ("alloc", 0, 1)]), (1, [("free", 0), ("large", 1, 1)]),
+        ], pages=1)
+        text = "0 0 0 1 1 1 carry0 0 "
+        self.assertEqual(state_behind(machine, text).slots, (None, FAILURE))
+        self.assertEqual(events_of(machine, text + "0 0")[7:], [("take", 1), ("home", (0, 0)), ("open", 0)])
+        self.assert_waits(machine, text + "0 0")
 
     def test_failure_waits_for_an_empty_slot(self):
         machine = Machine(1, [1], [(0, [("alloc", 0, 0), ("alloc", 0, 0)]), (0, [("adopt", 0), ("free", 0)])], pages=1)
